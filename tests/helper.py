@@ -26,6 +26,52 @@ def some_long_rows():
     return rows
 
 
+def scattered_rows():
+    """Rows of 8 to 10 numbers with no plain order in them: the remainders of multiples, cut short."""
+    rows = []
+    for factor in range(2, 10):
+        remainders = [factor * step % 11 for step in range(1, 11)]
+        for size in (8, 9, 10):
+            kept = remainders[:size]
+            rows.append(tuple(sorted(kept).index(number) for number in kept))
+    return rows
+
+
+def small_and_long_rows():
+    """Every row of up to 7 numbers, and some of 8 to 12."""
+    return rows_up_to(7) + some_long_rows() + scattered_rows()
+
+
+def at_places(row, places):
+    return [row[place] for place in places]
+
+
+def some_places(row):
+    """Every choice of places in the row, fewer ones first."""
+    return [places for size in range(len(row) + 1) for places in combinations(range(len(row)), size)]
+
+
+def rises(numbers):
+    return all(first < second for first, second in zip(numbers, numbers[1:]))
+
+
+def falls(numbers):
+    return all(first > second for first, second in zip(numbers, numbers[1:]))
+
+
+def all_trees(ones):
+    """Every tree with so many ones."""
+    if ones == 1:
+        return [("one",)]
+    return [
+        (way, first, second)
+        for left in range(1, ones)
+        for first in all_trees(left)
+        for second in all_trees(ones - left)
+        for way in ("up", "down")
+    ]
+
+
 def ordered_alike(some, others):
     """[0.5]: of any two the first is less than the second just if it is so in the others."""
     pairs = combinations(range(len(others)), 2)
@@ -37,5 +83,5 @@ def all_places(row, pattern):
     return [
         places
         for places in combinations(range(len(row)), len(pattern))
-        if ordered_alike([row[place] for place in places], pattern)
+        if ordered_alike(at_places(row, places), pattern)
     ]

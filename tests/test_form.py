@@ -26,6 +26,22 @@ INTERFACE = {
         "passed": ["row"],
         "passes": ["row"],
     },
+    "parts": {
+        "rising_parts": ["row"],
+        "longest_falling": ["row"],
+        "falling_parts": ["row"],
+        "longest_rising": ["row"],
+    },
+    "trees": {
+        "up": ["one", "other"],
+        "down": ["one", "other"],
+        "row_of": ["tree"],
+        "tree_of": ["row"],
+        "bar_tree": ["row"],
+    },
+    "counts": {
+        "count_without": ["size", "pattern"],
+    },
     "errors": {},
 }
 
@@ -47,8 +63,14 @@ METHODS = set(
 BARRED = (
     ast.With, ast.Match, ast.Delete, ast.Global, ast.Nonlocal, ast.Assert, ast.Yield, ast.YieldFrom,
     ast.AsyncFunctionDef, ast.AsyncFor, ast.AsyncWith, ast.Await, ast.Div, ast.SetComp, ast.DictComp,
-    ast.GeneratorExp, ast.NamedExpr, ast.Starred, ast.Import,
+    ast.GeneratorExp, ast.NamedExpr, ast.Starred, ast.Import, ast.TryStar,
 )
+
+# L22: the keywords that Python's own functions take.
+KEYWORDS = {
+    "sorted": {"key", "reverse"}, "min": {"key", "default"}, "max": {"key", "default"},
+    "sum": {"start"}, "enumerate": {"start"}, "zip": {"strict"},
+}
 
 # L17's last list.
 WORDS = re.compile(
@@ -101,6 +123,35 @@ class Form(unittest.TestCase):
                     self.assertEqual(node.orelse, [], name)
                 if isinstance(node, ast.Attribute):
                     self.assertIn(node.attr, METHODS, name)
+
+    def test_top_of_files(self):
+        for name, tree in trees():
+            self.assertIsInstance(ast.get_docstring(tree), str, name)
+            bound = []
+            for node in tree.body[1:]:
+                self.assertIsInstance(node, (ast.ImportFrom, ast.Assign, ast.FunctionDef), name)
+                if isinstance(node, ast.ImportFrom):
+                    bound += [alias.asname or alias.name for alias in node.names]
+                elif isinstance(node, ast.FunctionDef):
+                    bound.append(node.name)
+                else:
+                    bound.append(node.targets[0].id)
+                    self.assertIn(type(ast.literal_eval(node.value)), (int, str, tuple), name)
+            self.assertEqual(len(bound), len(set(bound)), name)
+
+    def test_expressions(self):
+        for name, tree in trees():
+            for node in ast.walk(tree):
+                if isinstance(node, ast.Constant):
+                    self.assertIn(type(node.value), (int, str, bool, type(None)), name)
+                if isinstance(node, ast.ListComp):
+                    self.assertEqual(len(node.generators), 1, name)
+                    self.assertLessEqual(len(node.generators[0].ifs), 1, name)
+                if isinstance(node, ast.Compare) and isinstance(node.ops[0], (ast.Is, ast.IsNot)):
+                    self.assertIn(ast.unparse(node.comparators[0]), ("None", "True", "False"), name)
+                if isinstance(node, ast.Call) and ast.unparse(node.func) in OWN_NAMES:
+                    words = {keyword.arg for keyword in node.keywords}
+                    self.assertLessEqual(words, KEYWORDS.get(ast.unparse(node.func), set()), name)
 
     def test_names(self):
         for name, tree in trees():
